@@ -345,7 +345,7 @@ func TestParseNear(t *testing.T) {
 	}
 }
 
-// edits are all texts that a line becomes if a byte is left out, put in, put in place of another one, or swapped with the next.
+// edits are the texts that a line becomes if it is cut in two, or if at some place a byte is left out, swapped with the next, or one of some others is put in or in its place.
 func edits(line string) []string {
 	const others = "\x00\t\n\r !+-.0129:;@AXZ_adejlnrstx\x7f\x80\xff"
 	var out []string
